@@ -1,0 +1,1 @@
+"""Jointhands: what people can find out together, and no more."""
