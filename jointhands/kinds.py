@@ -43,3 +43,13 @@ def has_word(value, word, many):
         return False
     first = value[0]
     return type(first) is str and first == word
+
+
+def is_row_of(numbers, low, high):
+    """True if this is a list or tuple of integers from low to high, of none too."""
+    if type(numbers) not in (list, tuple):
+        return False
+    for number in numbers:
+        if not is_number(number, low, high):
+            return False
+    return True

@@ -19,6 +19,27 @@ FUNCTIONS = {
         "last_part": ["table", "inputs"],
         "check_knot": ["table", "knot"],
     },
+    "jointhands.structures": {
+        "check_structure": ["structure"],
+        "threshold": ["n", "t"],
+        "two_groups": ["structure"],
+        "three_groups": ["structure"],
+        "holders": ["structure", "part"],
+        "is_allowed": ["structure", "people"],
+    },
+    "jointhands.programs": {
+        "check_program": ["program", "n"],
+        "plain": ["program", "inputs", "m"],
+        "read_program": ["text"],
+        "write_program": ["program"],
+    },
+    "jointhands.quiet": {
+        "run_quiet": ["structure", "m", "program", "inputs", "coins"],
+        "view_quiet": ["run", "program", "inputs", "group"],
+    },
+}
+CLASSES = {
+    "jointhands.quiet": ["QuietRun"],
 }
 ERRORS = ["JointError", "BadStructure", "BadModulus", "BadInputs", "BadCoins", "BadGroup", "BadLies", "BadTurn",
           "BadTalk", "BadTable", "BadProgram", "BadText"]
@@ -34,6 +55,21 @@ class Interface(unittest.TestCase):
                     self.assertTrue(inspect.isfunction(function))
                     self.assertEqual(function.__module__, module_name)
                     self.assertEqual(list(inspect.signature(function).parameters), arguments)
+
+    def test_classes_stand_in_their_files(self):
+        for module_name, names in CLASSES.items():
+            for name in names:
+                with self.subTest(f"{module_name}.{name}"):
+                    found = getattr(importlib.import_module(module_name), name)
+                    self.assertTrue(inspect.isclass(found))
+                    self.assertEqual(found.__module__, module_name)
+
+    def test_a_run_has_its_attributes(self):
+        quiet = importlib.import_module("jointhands.quiet")
+        run = quiet.run_quiet(("structure", 2, ((1,),)), 2, (("number", 1),), (), ())
+        self.assertIs(type(run), quiet.QuietRun)
+        for name in ("parts", "told", "letters", "taken", "dealt"):
+            self.assertIs(type(vars(run)[name]), list)
 
     def test_errors_stand_in_their_file(self):
         module = importlib.import_module("jointhands.errors")

@@ -5,8 +5,9 @@ import itertools
 import random
 import unittest
 
-from jointhands import knots, talks
+from jointhands import knots, programs, quiet, structures, talks
 from tests.helpers import composed_table, peeled_table, plain_kinds, random_tree, say
+from tests.runs import QUIET, coins_taken, drawn_program, puts_of, run_told
 
 TABLE = ((1, 7, 1), (5, 5, 5), (2, 7, 2))
 KNOTTED = ((4, 4, 4), (0, 0, 3), (0, 1, 3))
@@ -15,10 +16,43 @@ FLAWED = ("talk", 2, 1, say(0, ((0, 1), (0, 0), (1, 1)), ("end", ((7, 7),) * 3, 
 EVEN = ((7, 7, 7),) * 3
 PEOPLE_END = ("end", (((1,), (2,)), ((3,), (4,)), ((5,), (6,))))
 PEOPLE = ("people", (1, 1, 1), say(3, ((0,), (1,)), PEOPLE_END, say(1, ((0,), (1,)), PEOPLE_END, PEOPLE_END)))
+STRUCTURE = ("structure", 4, ((1, 2), (3,), (4,)))
+PROGRAM = (("put", 2), ("put", 4), ("times", 0, 1), ("number", -8), ("less", 2, 3), ("scale", 3, 4), ("tell", 5, (1, 3)))
+TEXT = "put 2\nput 4\ntimes 0 1\nnumber -8\nless 2 3\nscale 3 4\ntell 5 1 3"
+COINS = [3, 1, 4, 1, 5, 9, 2, 6, 5, 3, 5, 8]
 
 
 def calls():
     """(function, arguments) of each function; the arguments are made anew."""
+    return calls_with_tables() + calls_with_programs()
+
+
+def calls_with_programs():
+    run = quiet.run_quiet(STRUCTURE, 10, PROGRAM, [7, 8], list(COINS))
+    return [
+        (structures.check_structure, (STRUCTURE,)),
+        (structures.threshold, (5, 2)),
+        (structures.two_groups, (STRUCTURE,)),
+        (structures.two_groups, (("structure", 3, ((1, 2), (2, 3))),)),
+        (structures.three_groups, (STRUCTURE,)),
+        (structures.holders, (STRUCTURE, 2)),
+        (structures.holders, (STRUCTURE, 3)),
+        (structures.is_allowed, (STRUCTURE, [1, 2])),
+        (structures.is_allowed, (STRUCTURE, [1, 3])),
+        (programs.check_program, (PROGRAM, 4)),
+        (programs.plain, (PROGRAM, [7, 8], 10)),
+        (programs.plain, (PROGRAM, (7, 8), 9)),
+        (programs.read_program, (TEXT,)),
+        (programs.write_program, (PROGRAM,)),
+        (quiet.run_quiet, (STRUCTURE, 10, PROGRAM, [7, 8], list(COINS))),
+        (quiet.run_quiet, (STRUCTURE, 10, PROGRAM, (7, 8), tuple(COINS) * 2)),
+        (quiet.run_quiet, (STRUCTURE, 11, PROGRAM, (7, 8), tuple(COINS))),
+        (quiet.view_quiet, (run, PROGRAM, [7, 8], [1, 4])),
+        (quiet.view_quiet, (run, PROGRAM, [7, 8], [])),
+    ]
+
+
+def calls_with_tables():
     talk = talks.two_sides(PEOPLE, (2, 2, 2), (2,))
     flaw = talks.flaw_of(FLAWED, EVEN)
     return [
@@ -56,26 +90,66 @@ def refused_calls():
         (knots.talk_for, (KNOTTED,)),
         (knots.last_part, (KNOTTED, (0, 0))),
         (knots.knot_of, ([[1], [2]],)),
+        (structures.check_structure, (["structure", 3, [[1], [2]]],)),
+        (structures.threshold, (6, 3)),
+        (structures.holders, (("structure", 3, ([1], [2])), 1)),
+        (programs.check_program, ([["put", 1]], 3)),
+        (programs.check_program, (PROGRAM + (["put", 1],), 4)),
+        (programs.plain, (PROGRAM, [7, 10], 10)),
+        (programs.plain, (list(PROGRAM), [7, 8], 10)),
+        (programs.read_program, (TEXT + "\n",)),
+        (programs.write_program, (list(PROGRAM),)),
+        (quiet.run_quiet, (["structure", 3, [[1]]], 10, PROGRAM, [7, 8], list(COINS))),
+        (quiet.run_quiet, (STRUCTURE, 10, PROGRAM, [7, 8, 9], list(COINS))),
+        (quiet.run_quiet, (STRUCTURE, 10, PROGRAM, [7, 8], COINS[1:])),
+        (quiet.run_quiet, (STRUCTURE, 9, PROGRAM, [7, 8], list(COINS))),
     ]
 
 
-def outcome(function, arguments):
-    """What a call gives: its answer or the class of its error."""
+def answer_of(function, arguments):
+    """What a call gives: its answer, told attribute by attribute if it is a run, or the class of its error."""
     try:
-        return function(*arguments)
+        answer = function(*arguments)
     except ValueError as error:
         return type(error).__name__
+    return run_told(answer) if type(answer) is quiet.QuietRun else answer
+
+
+def outcome(function, arguments):
+    """What a call gives, as a copy."""
+    return copy.deepcopy(answer_of(function, arguments))
+
+
+def lists_in(value):
+    """All lists in an answer."""
+    inside = value.values() if type(value) is dict else value if type(value) in (list, tuple) else ()
+    return ([value] if type(value) is list else []) + [found for item in inside for found in lists_in(item)]
+
+
+def drawn_runs(rng, structure):
+    """Calls of a run and its plain values, twice with the same program."""
+    program = drawn_program(rng, structure[1], 8)
+    found = []
+    for m in (5, 6):
+        inputs = [rng.randrange(m) for _ in puts_of(program)]
+        coins = [rng.randrange(m) for _ in range(coins_taken(structure, program))]
+        found.append((quiet.run_quiet, (structure, m, program, inputs, coins)))
+        found.append((programs.plain, (program, inputs, m)))
+    return found
+
+
+def told(arguments):
+    """What arguments are, written out, runs too."""
+    return repr([vars(item) if type(item) is quiet.QuietRun else item for item in arguments])
 
 
 class SameAgain(unittest.TestCase):
     def test_nothing_is_modified(self):
         for function, arguments in calls() + refused_calls():
             with self.subTest(function.__name__):
-                before = copy.deepcopy(arguments)
-                written = repr(arguments)
+                written = told(arguments)
                 outcome(function, arguments)
-                self.assertEqual(arguments, before)
-                self.assertEqual(repr(arguments), written)
+                self.assertEqual(told(arguments), written)
 
     def test_the_same_call_gives_the_same_again(self):
         for function, arguments in calls() + refused_calls():
@@ -83,25 +157,46 @@ class SameAgain(unittest.TestCase):
                 self.assertEqual(outcome(function, arguments), outcome(function, arguments))
 
     def test_with_other_calls_in_between(self):
-        told = calls() + refused_calls()
-        first = [outcome(*call) for call in told]
+        made = calls() + refused_calls()
+        first = [outcome(*call) for call in made]
         rng = random.Random(2)
-        order = list(range(len(told))) * 4
+        order = list(range(len(made))) * 4
         rng.shuffle(order)
         for at in order:
-            self.assertEqual(outcome(*told[at]), first[at], told[at][0].__name__)
+            self.assertEqual(outcome(*made[at]), first[at], made[at][0].__name__)
 
     def test_with_others_of_the_same_sizes_in_between(self):
         rng = random.Random(3)
         tables = [composed_table(rng, 4, 4, True) for _ in range(12)]
         trees = [random_tree(rng, 4, (4, 4), (2, 2), (0, 1)) for _ in range(4)]
-        told = [(function, (table,)) for table in tables for function in (knots.knot_of, knots.talk_for)]
-        told += [(knots.last_part, (table, inputs)) for table in tables for inputs in ((0, 0), (3, 2))]
-        told += [(talks.flaw_of, (("talk", 2, 2, tree), table)) for table in tables[:4] for tree in trees]
-        first = [outcome(*call) for call in told]
+        made = [(function, (table,)) for table in tables for function in (knots.knot_of, knots.talk_for)]
+        made += [(knots.last_part, (table, inputs)) for table in tables for inputs in ((0, 0), (3, 2))]
+        made += [(talks.flaw_of, (("talk", 2, 2, tree), table)) for table in tables[:4] for tree in trees]
+        made += [call for structure in QUIET for call in drawn_runs(rng, structure)]
+        first = [outcome(*call) for call in made]
         for _ in range(3):
-            for call, answer in sorted(zip(told, first), key=lambda pair: rng.random()):
+            for call, answer in sorted(zip(made, first), key=lambda pair: rng.random()):
                 self.assertEqual(outcome(*call), answer)
+
+    def test_lists_that_are_modified(self):
+        changed = 0
+        for function, arguments in calls():
+            with self.subTest(function.__name__):
+                first = outcome(function, arguments)
+                for found in lists_in(answer_of(function, arguments)):
+                    found[:] = [None]
+                    changed += 1
+                self.assertEqual(outcome(function, arguments), first)
+        self.assertGreater(changed, 15)
+
+    def test_inputs_and_coins_that_are_modified_afterwards(self):
+        inputs, coins = [7, 8], list(COINS)
+        run = quiet.run_quiet(STRUCTURE, 10, PROGRAM, inputs, coins)
+        values = programs.plain(PROGRAM, inputs, 10)
+        written = repr((run_told(run), values))
+        inputs.clear()
+        coins[:] = [0] * 12
+        self.assertEqual(repr((run_told(run), values)), written)
 
     def test_a_group_that_is_modified_afterwards(self):
         group = [1, 3]
@@ -116,11 +211,17 @@ class SameAgain(unittest.TestCase):
         for function, arguments in calls():
             answer = outcome(function, arguments)
             with self.subTest(function.__name__):
-                if function in (talks.check_flaw, knots.check_knot):
+                if function in (talks.check_flaw, knots.check_knot, structures.is_allowed):
                     self.assertIn(answer, (True, False))
                     self.assertIs(type(answer), bool)
                 elif function in (talks.check_table, talks.check_talk):
                     self.assertTrue(answer is None or answer == "BadTalk")
+                elif function in (structures.holders, programs.plain):
+                    self.assertIs(type(answer), list)
+                    self.assertTrue(plain_kinds(tuple(answer)))
+                elif function == quiet.run_quiet:
+                    self.assertEqual({type(attribute) for attribute in answer.values()}, {list})
+                    self.assertTrue(plain_kinds(tuple(map(tuple, answer.values()))))
                 else:
                     self.assertTrue(plain_kinds(answer))
 
