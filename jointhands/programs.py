@@ -2,7 +2,7 @@
 
 from jointhands.errors import BadProgram, BadText
 from jointhands.looks import check_inputs, check_modulus
-from jointhands.rows import is_right_row, put_rows
+from jointhands.rows import is_right_row, values_of
 from jointhands.structures import MOST_PEOPLE
 from jointhands.texts import read_row, write_row
 
@@ -20,33 +20,17 @@ def check_program(program, n):
         raise BadProgram(MOST_ROWS)
 
 
+def check_given(m, program, n, inputs):
+    """Looks at a modulus, a program for n people and its inputs, in this order."""
+    check_modulus(m)
+    check_program(program, n)
+    check_inputs(program, inputs, m)
+
+
 def plain(program, inputs, m):
     """The list of the values of all rows, that of a tell row being the value that is told."""
-    check_modulus(m)
-    check_program(program, MOST_PEOPLE)
-    check_inputs(program, inputs, m)
-    given = dict(zip(put_rows(program), inputs))
-    values = []
-    for at, row in enumerate(program):
-        values.append(given[at] if at in given else value_of(row, values, m))
-    return values
-
-
-def value_of(row, values, m):
-    """The value of a row that is no put row; values has those of all rows ahead of it."""
-    word = row[0]
-    if word == "number":
-        return row[1] % m
-    if word == "tell":
-        return values[row[1]]
-    if word == "scale":
-        return row[1] * values[row[2]] % m
-    one, other = values[row[1]], values[row[2]]
-    if word == "add":
-        return (one + other) % m
-    if word == "less":
-        return (one - other) % m
-    return one * other % m
+    check_given(m, program, MOST_PEOPLE, inputs)
+    return [column[0] for column in values_of(program, [inputs], m)]
 
 
 def read_program(text):

@@ -1,13 +1,15 @@
 """The quiet run of a program, and what a group of people sees of it."""
 
-from jointhands.looks import check_coins, check_inputs, check_modulus
-from jointhands.programs import check_program
-from jointhands.rows import item_by_item, put_rows
+from jointhands.dealings import Dealings
+from jointhands.looks import check_coins
+from jointhands.programs import check_given
+from jointhands.rows import item_by_item, joined, put_rows
 from jointhands.sharing import Sharing
 from jointhands.structures import check_quiet
+from jointhands.views import Run
 
 
-class QuietRun:
+class QuietRun(Run):
     """What was done in a quiet run.
 
     parts has a tuple of the parts of each row, None for tell rows; told the triples (row, person, number)
@@ -15,45 +17,25 @@ class QuietRun:
     of all dealings; all of them lists, in order.
     """
 
-    def __init__(self, parts, told, letters, taken, dealt):
+    def __init__(self, parts, told, letters, dealings):
+        super().__init__(told, letters, dealings)
         self.parts = parts
-        self.told = told
-        self.letters = letters
-        self.taken = taken
-        self.dealt = dealt
-        # The lists are the caller's, who may modify them: views are made of what stays as it is.
-        self._kept_taken = tuple(taken)
-        self._kept_letters = tuple(letters)
-
-    def coins_of(self, group):
-        """The coins that the people of a group took, in order."""
-        return tuple([coin for person, coin in self._kept_taken if person in group])
-
-    def letters_to(self, group):
-        """The letters that the people of a group received, in order."""
-        return tuple([letter for letter in self._kept_letters if letter[1] in group])
 
 
-class Course:
+class QuietCourse:
     """A quiet run as it goes on, row by row."""
 
-    def __init__(self, sharing, m, coins):
+    def __init__(self, sharing, dealings):
         self.sharing = sharing
-        self.m = m
-        self.coins = coins
+        self.dealings = dealings
+        self.m = dealings.m
         self.parts = []
         self.told = []
         self.letters = []
-        self.taken = []
-        self.dealt = []
 
     def deal(self, person, number):
         """Deals a number for the row that is being run; its parts."""
-        first = len(self.taken)
-        drawn = self.coins[first:first + self.sharing.many - 1]
-        parts = (*drawn, (number - sum(drawn)) % self.m)
-        self.dealt.append((person, number))
-        self.taken.extend([(person, coin) for coin in drawn])
+        parts = self.dealings.parts_of(person, number)
         for at, part in enumerate(parts):
             for receiver in self.sharing.held_by[at]:
                 self.send(person, receiver, at, part)
@@ -70,8 +52,7 @@ class Course:
         total = (0,) * self.sharing.many
         for person, pairs in self.sharing.products.items():
             number = sum([one[g] * other[h] for g, h in pairs]) % self.m
-            dealt = self.deal(person, number)
-            total = tuple([(so_far + part) % self.m for so_far, part in zip(total, dealt)])
+            total = joined(total, self.deal(person, number), 1, self.m)
         return total
 
     def tell(self, row):
@@ -100,23 +81,23 @@ class Course:
             parts = item_by_item(row, self.parts, self.m)
         self.parts.append(parts)
 
+    def run(self, program, inputs):
+        """Runs all rows; the run that comes of it."""
+        given = dict(zip(put_rows(program), inputs))
+        for at, row in enumerate(program):
+            self.run_row(row, given.get(at))
+        return QuietRun(self.parts, self.told, self.letters, self.dealings)
+
 
 def run_quiet(structure, m, program, inputs, coins):
     """The quiet run of a program, for a quiet structure."""
     check_quiet(structure)
-    check_modulus(m)
-    check_program(program, structure[1])
-    check_inputs(program, inputs, m)
+    check_given(m, program, structure[1], inputs)
     sharing = Sharing(structure)
-    check_coins(coins, m, sharing.coins_for(program))
-    course = Course(sharing, m, coins)
-    given = dict(zip(put_rows(program), inputs))
-    for at, row in enumerate(program):
-        course.run_row(row, given.get(at))
-    return QuietRun(course.parts, course.told, course.letters, course.taken, course.dealt)
+    check_coins(coins, m, sharing.quiet_coins(program))
+    return QuietCourse(sharing, Dealings(sharing.many, m, coins)).run(program, inputs)
 
 
 def view_quiet(run, program, inputs, group):
     """What a group sees of a quiet run: the tuple of its inputs, its coins and the letters to it."""
-    seen = tuple([(at, number) for at, number in zip(put_rows(program), inputs) if program[at][1] in group])
-    return (seen, run.coins_of(group), run.letters_to(group))
+    return run.view(program, inputs, group)

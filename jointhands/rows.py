@@ -47,4 +47,28 @@ def item_by_item(row, items, m):
     if row[0] == "scale":
         return tuple([row[1] * item % m for item in items[row[2]]])
     sign = 1 if row[0] == "add" else -1
-    return tuple([(one + sign * other) % m for one, other in zip(items[row[1]], items[row[2]])])
+    return joined(items[row[1]], items[row[2]], sign, m)
+
+
+def joined(one, other, sign, m):
+    """The items of one tuple and those of another one, these with a sign, added up by m."""
+    return tuple([(item + sign * second) % m for item, second in zip(one, other)])
+
+
+def values_of(program, rows, m):
+    """For each row of a program the tuple of its values by m on each of some rows of inputs."""
+    given = dict(zip(put_rows(program), list(zip(*rows))))
+    values = []
+    for at, row in enumerate(program):
+        word = row[0]
+        if word == "put":
+            values.append(given[at])
+        elif word == "number":
+            values.append((row[1] % m,) * len(rows))
+        elif word == "times":
+            values.append(tuple([one * other % m for one, other in zip(values[row[1]], values[row[2]])]))
+        elif word == "tell":
+            values.append(values[row[1]])
+        else:
+            values.append(item_by_item(row, values, m))
+    return values

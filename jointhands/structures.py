@@ -33,6 +33,12 @@ def check_quiet(structure):
         raise BadStructure("two groups together are everybody")
 
 
+def check_sound(structure):
+    """Raises BadStructure if this is no structure, or not a sound one."""
+    if three_groups(structure) is not None:
+        raise BadStructure("three groups together are everybody")
+
+
 def is_within(some, people):
     """True if all of some people are among the others."""
     for person in some:
@@ -95,7 +101,12 @@ def is_allowed(structure, people):
     n, groups = structure[1], structure[2]
     if type(people) not in (list, tuple) or not is_ascending(people, 1, n):
         return False
-    for group in groups:
+    return group_around(groups, people) is not None
+
+
+def group_around(groups, people):
+    """The place of the first of the groups within which people lie, None if they lie within none."""
+    for at, group in enumerate(groups):
         if is_within(people, group):
-            return True
-    return False
+            return at
+    return None

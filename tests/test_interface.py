@@ -37,9 +37,28 @@ FUNCTIONS = {
         "run_quiet": ["structure", "m", "program", "inputs", "coins"],
         "view_quiet": ["run", "program", "inputs", "group"],
     },
+    "jointhands.loud": {
+        "run_loud": ["structure", "m", "program", "inputs", "coins", "liars", "lies"],
+        "attack": ["structure"],
+        "view_loud": ["run", "program", "inputs", "group"],
+    },
+    "jointhands.turning": {
+        "turned": ["structure", "m", "program", "inputs", "others", "coins", "group"],
+        "turned_loud": ["structure", "m", "program", "inputs", "others", "coins", "group", "liars", "lies"],
+        "made_view": ["structure", "m", "program", "inputs", "values", "coins", "group"],
+    },
+    "jointhands.tables": {
+        "program_of": ["table", "people", "m"],
+    },
+    "jointhands.learning": {
+        "learned": ["structure", "m", "program", "inputs", "group"],
+        "quiet_costs": ["structure", "program"],
+        "loud_costs": ["structure", "program"],
+    },
 }
 CLASSES = {
     "jointhands.quiet": ["QuietRun"],
+    "jointhands.loud": ["LoudRun"],
 }
 ERRORS = ["JointError", "BadStructure", "BadModulus", "BadInputs", "BadCoins", "BadGroup", "BadLies", "BadTurn",
           "BadTalk", "BadTable", "BadProgram", "BadText"]
@@ -64,11 +83,15 @@ class Interface(unittest.TestCase):
                     self.assertTrue(inspect.isclass(found))
                     self.assertEqual(found.__module__, module_name)
 
-    def test_a_run_has_its_attributes(self):
-        quiet = importlib.import_module("jointhands.quiet")
+    def test_runs_have_their_attributes(self):
+        quiet, loud = [importlib.import_module(f"jointhands.{name}") for name in ("quiet", "loud")]
         run = quiet.run_quiet(("structure", 2, ((1,),)), 2, (("number", 1),), (), ())
         self.assertIs(type(run), quiet.QuietRun)
         for name in ("parts", "told", "letters", "taken", "dealt"):
+            self.assertIs(type(vars(run)[name]), list)
+        run = loud.run_loud(("structure", 2, ((1,),)), 2, (("number", 1),), (), (), (), ())
+        self.assertIs(type(run), loud.LoudRun)
+        for name in ("told", "letters", "taken", "board", "inputs", "dealt"):
             self.assertIs(type(vars(run)[name]), list)
 
     def test_errors_stand_in_their_file(self):

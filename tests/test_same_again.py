@@ -5,9 +5,10 @@ import itertools
 import random
 import unittest
 
-from jointhands import knots, programs, quiet, structures, talks
+from jointhands import knots, learning, loud, programs, quiet, structures, tables, talks, turning
 from tests.helpers import composed_table, peeled_table, plain_kinds, random_tree, say
-from tests.runs import QUIET, coins_taken, drawn_program, puts_of, run_told
+from tests.loud_runs import SOUND, loud_coins_taken, loud_told
+from tests.runs import QUIET, coins_taken, drawn_program, puts_of, run_told, within_greatest
 
 TABLE = ((1, 7, 1), (5, 5, 5), (2, 7, 2))
 KNOTTED = ((4, 4, 4), (0, 0, 3), (0, 1, 3))
@@ -20,11 +21,15 @@ STRUCTURE = ("structure", 4, ((1, 2), (3,), (4,)))
 PROGRAM = (("put", 2), ("put", 4), ("times", 0, 1), ("number", -8), ("less", 2, 3), ("scale", 3, 4), ("tell", 5, (1, 3)))
 TEXT = "put 2\nput 4\ntimes 0 1\nnumber -8\nless 2 3\nscale 3 4\ntell 5 1 3"
 COINS = [3, 1, 4, 1, 5, 9, 2, 6, 5, 3, 5, 8]
+# One that is sound, and more coins for its loud runs.
+FIRM = ("structure", 4, ((1, 2), (3,)))
+MANY_COINS = COINS * 5
+LIES = [0, 3, -1, 0, 10 ** 20, 5]
 
 
 def calls():
     """(function, arguments) of each function; the arguments are made anew."""
-    return calls_with_tables() + calls_with_programs()
+    return calls_with_tables() + calls_with_programs() + calls_with_liars() + calls_of_turnings()
 
 
 def calls_with_programs():
@@ -49,6 +54,37 @@ def calls_with_programs():
         (quiet.run_quiet, (STRUCTURE, 11, PROGRAM, (7, 8), tuple(COINS))),
         (quiet.view_quiet, (run, PROGRAM, [7, 8], [1, 4])),
         (quiet.view_quiet, (run, PROGRAM, [7, 8], [])),
+    ]
+
+
+def calls_with_liars():
+    run = loud.run_loud(FIRM, 10, PROGRAM, [7, 8], list(MANY_COINS), [1, 2], list(LIES))
+    return [
+        (loud.run_loud, (FIRM, 10, PROGRAM, [7, 8], list(MANY_COINS), [], [])),
+        (loud.run_loud, (FIRM, 10, PROGRAM, [7, 8], list(MANY_COINS), [1, 2], list(LIES))),
+        (loud.run_loud, (STRUCTURE, 11, PROGRAM, (7, 8), tuple(MANY_COINS), (3,), tuple(LIES))),
+        (loud.view_loud, (run, PROGRAM, [7, 8], [1, 4])),
+        (loud.view_loud, (run, PROGRAM, [7, 8], [])),
+        (loud.attack, (FIRM,)),
+        (loud.attack, (STRUCTURE,)),
+    ]
+
+
+def calls_of_turnings():
+    return [
+        (turning.turned, (STRUCTURE, 10, PROGRAM, [7, 8], [7, 3], list(COINS), [1, 2])),
+        (turning.turned, (STRUCTURE, 10, PROGRAM, [7, 8], [2, 3], list(COINS), [])),
+        (turning.turned, (STRUCTURE, 10, PROGRAM, [7, 8], [6, 8], list(COINS), [4])),
+        (turning.turned_loud, (FIRM, 10, PROGRAM, [7, 8], [7, 3], list(MANY_COINS), [1, 2], [2], list(LIES))),
+        (turning.turned_loud, (FIRM, 10, PROGRAM, [7, 8], [6, 3], list(MANY_COINS), [3], [], list(LIES))),
+        (turning.made_view, (STRUCTURE, 10, PROGRAM, [7, 0], [4], list(COINS), [1, 2])),
+        (turning.made_view, (STRUCTURE, 10, PROGRAM, [0, 0], [9], list(COINS), [])),
+        (tables.program_of, ((0, 1, 1, 0), [3, 1], 2)),
+        (tables.program_of, (tuple(at * at % 7 for at in range(49)), [8, 8], 7)),
+        (learning.learned, (STRUCTURE, 10, PROGRAM, [7, 8], [1, 2])),
+        (learning.learned, (STRUCTURE, 10, PROGRAM, [7, 8], [])),
+        (learning.quiet_costs, (STRUCTURE, PROGRAM)),
+        (learning.loud_costs, (STRUCTURE, PROGRAM)),
     ]
 
 
@@ -103,6 +139,17 @@ def refused_calls():
         (quiet.run_quiet, (STRUCTURE, 10, PROGRAM, [7, 8, 9], list(COINS))),
         (quiet.run_quiet, (STRUCTURE, 10, PROGRAM, [7, 8], COINS[1:])),
         (quiet.run_quiet, (STRUCTURE, 9, PROGRAM, [7, 8], list(COINS))),
+        (loud.run_loud, (STRUCTURE, 10, PROGRAM, [7, 8], list(MANY_COINS), [1, 3], list(LIES))),
+        (loud.run_loud, (STRUCTURE, 10, PROGRAM, [7, 8], list(MANY_COINS), [1, 2], LIES + [None])),
+        (loud.attack, (["structure", 3, [[1]]],)),
+        (turning.turned, (STRUCTURE, 10, PROGRAM, [7, 8], [8, 8], list(COINS), [1, 2])),
+        (turning.turned, (STRUCTURE, 10, PROGRAM, [7, 8], [8, 8], list(COINS), [2, 1])),
+        (turning.turned_loud, (STRUCTURE, 10, PROGRAM, [7, 8], [7, 8], list(MANY_COINS), [1, 2], [1], list(LIES))),
+        (turning.turned_loud, (FIRM, 10, PROGRAM, [7, 8], [7, 8], list(MANY_COINS), [1], [1, 2], list(LIES))),
+        (turning.made_view, (STRUCTURE, 10, PROGRAM, [7, 0], [4, 4], list(COINS), [1, 2])),
+        (tables.program_of, ([0, 1, 1, 0], [3, 1], 2)),
+        (learning.learned, (STRUCTURE, 1000, PROGRAM, [7, 8], [1, 2])),
+        (learning.loud_costs, (STRUCTURE, list(PROGRAM))),
     ]
 
 
@@ -112,7 +159,9 @@ def answer_of(function, arguments):
         answer = function(*arguments)
     except ValueError as error:
         return type(error).__name__
-    return run_told(answer) if type(answer) is quiet.QuietRun else answer
+    if type(answer) is quiet.QuietRun:
+        return run_told(answer)
+    return loud_told(answer) if type(answer) is loud.LoudRun else answer
 
 
 def outcome(function, arguments):
@@ -135,12 +184,19 @@ def drawn_runs(rng, structure):
         coins = [rng.randrange(m) for _ in range(coins_taken(structure, program))]
         found.append((quiet.run_quiet, (structure, m, program, inputs, coins)))
         found.append((programs.plain, (program, inputs, m)))
+        found.append((turning.turned, (structure, m, program, inputs, inputs[::-1], coins, [])))
+        if structure in SOUND and structure[1] < 6:
+            coins = [rng.randrange(m) for _ in range(loud_coins_taken(structure, program))]
+            liars = rng.choice(within_greatest(structure))
+            lies = [rng.choice((0, 0, 1)) for _ in range(50)]
+            found.append((loud.run_loud, (structure, m, program, inputs, coins, liars, lies)))
+            found.append((turning.turned_loud, (structure, m, program, inputs, inputs, coins, liars, liars, lies)))
     return found
 
 
 def told(arguments):
     """What arguments are, written out, runs too."""
-    return repr([vars(item) if type(item) is quiet.QuietRun else item for item in arguments])
+    return repr([vars(item) if type(item) in (quiet.QuietRun, loud.LoudRun) else item for item in arguments])
 
 
 class SameAgain(unittest.TestCase):
@@ -187,7 +243,7 @@ class SameAgain(unittest.TestCase):
                     found[:] = [None]
                     changed += 1
                 self.assertEqual(outcome(function, arguments), first)
-        self.assertGreater(changed, 15)
+        self.assertGreater(changed, 40)
 
     def test_inputs_and_coins_that_are_modified_afterwards(self):
         inputs, coins = [7, 8], list(COINS)
@@ -197,6 +253,19 @@ class SameAgain(unittest.TestCase):
         inputs.clear()
         coins[:] = [0] * 12
         self.assertEqual(repr((run_told(run), values)), written)
+
+    def test_what_loud_runs_and_turnings_are_handed_is_modified_afterwards(self):
+        inputs, others, coins, group, liars, lies = [7, 8], [7, 3], list(MANY_COINS), [1, 2], [2], list(LIES)
+        run = loud.run_loud(FIRM, 10, PROGRAM, inputs, coins, liars, lies)
+        found = [turning.turned_loud(FIRM, 10, PROGRAM, inputs, others, coins, group, liars, lies),
+                 turning.turned(FIRM, 10, PROGRAM, inputs, others, coins, group),
+                 turning.made_view(FIRM, 10, PROGRAM, inputs, [3], coins, group),
+                 learning.learned(FIRM, 10, PROGRAM, inputs, group),
+                 tables.program_of((0, 1, 1, 0), group, 2)]
+        written = repr((loud_told(run), found))
+        for handed in (inputs, others, coins, group, liars, lies):
+            handed[:] = [0]
+        self.assertEqual(repr((loud_told(run), found)), written)
 
     def test_a_group_that_is_modified_afterwards(self):
         group = [1, 3]
@@ -216,10 +285,10 @@ class SameAgain(unittest.TestCase):
                     self.assertIs(type(answer), bool)
                 elif function in (talks.check_table, talks.check_talk):
                     self.assertTrue(answer is None or answer == "BadTalk")
-                elif function in (structures.holders, programs.plain):
+                elif function in (structures.holders, programs.plain, turning.turned, turning.turned_loud, learning.learned):
                     self.assertIs(type(answer), list)
                     self.assertTrue(plain_kinds(tuple(answer)))
-                elif function == quiet.run_quiet:
+                elif function in (quiet.run_quiet, loud.run_loud):
                     self.assertEqual({type(attribute) for attribute in answer.values()}, {list})
                     self.assertTrue(plain_kinds(tuple(map(tuple, answer.values()))))
                 else:
