@@ -148,7 +148,7 @@ class LoudCourse:
         """Runs all rows; the run that comes of it."""
         given = dict(zip(put_rows(program), inputs))
         for at, row in enumerate(program):
-            self.speaking.row = at
+            self.speaking.begin_row(at)
             self.run_row(row, given.get(at))
         return LoudRun(self.told, self.speaking.letters, self.dealings, self.speaking.board, self.inputs)
 

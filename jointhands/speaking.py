@@ -19,6 +19,10 @@ class Speaking:
         self.letters = []
         self.board = []
 
+    def begin_row(self, row):
+        """From here on the row with this number is being run."""
+        self.row = row
+
     def sent(self, person, number):
         """The number that goes out where a person should send this one."""
         if person not in self.liars or self.lied == len(self.lies):
